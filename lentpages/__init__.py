@@ -1,0 +1,1 @@
+"""Lentpages: a machine's memory with lent pages, paging and crash recovery."""

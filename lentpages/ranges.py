@@ -1,0 +1,9 @@
+"""The check of ranges that shapes and regions have in common."""
+
+from lentpages.errors import BadRange
+
+
+def check_range(start, end, limit):
+    """Raises BadRange unless the range has a number and lies in (0, limit)."""
+    if not 0 <= start < end <= limit:
+        raise BadRange(start, end)

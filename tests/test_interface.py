@@ -1,0 +1,49 @@
+"""The interface of the document: names, arguments, and the files that define them."""
+
+import importlib
+import inspect
+import unittest
+
+# "Class.method" or "function", each with its arguments.
+INTERFACE = {
+    "shapes": {
+        "Shape.__init__": "(self, widths)",
+        "Shape.span": "(self, level)",
+        "Shape.path": "(self, page)",
+        "Shape.page_at": "(self, path)",
+        "Shape.block_at": "(self, level, page)",
+        "cover": "(shape, start, end)",
+    },
+    "regions": {
+        "Regions.__init__": "(self, limit)",
+        "Regions.assign": "(self, start, end, rights, *, file='', index=0)",
+        "Regions.unassign": "(self, start, end)",
+        "Regions.protect": "(self, start, end, rights)",
+        "Regions.as_list": "(self)",
+        "Regions.mark_at": "(self, page)",
+        "Regions.mapped_count": "(self)",
+        "Regions.clone": "(self)",
+    },
+}
+
+
+class InterfaceTest(unittest.TestCase):
+    def test_names_and_arguments(self):
+        for name, members in INTERFACE.items():
+            module = importlib.import_module("lentpages." + name)
+            for path, arguments in members.items():
+                with self.subTest(module=name, path=path):
+                    self.assertEqual(str(inspect.signature(self.find(module, path))), arguments)
+
+    def find(self, module, path):
+        """What the path names, which has to stand in the module and in the class itself."""
+        found = module
+        for word in path.split("."):
+            self.assertIn(word, vars(found))
+            found = vars(found)[word]
+            self.assertEqual(found.__module__, module.__name__)
+        return found
+
+
+if __name__ == "__main__":
+    unittest.main()

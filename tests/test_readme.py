@@ -1,0 +1,18 @@
+"""The examples in README.md."""
+
+import doctest
+import unittest
+from pathlib import Path
+
+README = Path(__file__).resolve().parent.parent / "README.md"
+
+
+class ReadmeTest(unittest.TestCase):
+    def test_the_examples(self):
+        result = doctest.testfile(str(README), module_relative=False)
+        self.assertGreater(result.attempted, 0)
+        self.assertEqual(result.failed, 0)
+
+
+if __name__ == "__main__":
+    unittest.main()

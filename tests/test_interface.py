@@ -21,8 +21,36 @@ INTERFACE = {
         "Regions.protect": "(self, start, end, rights)",
         "Regions.as_list": "(self)",
         "Regions.mark_at": "(self, page)",
+        "Regions.__iter__": "(self)",
+        "Regions.__contains__": "(self, page)",
         "Regions.mapped_count": "(self)",
         "Regions.clone": "(self)",
+    },
+    "holes": {
+        "find_hole": "(regions, length, *, least=0)",
+        "hole_blockers": "(regions, length, *, least=0)",
+    },
+    "folding": {
+        "FoldedTable.__init__": "(self, shape, regions)",
+        "FoldedTable.walk": "(self, page)",
+        "FoldedTable.entries": "(self)",
+        "FoldedTable.table_count": "(self)",
+        "FoldedTable.tree": "(self)",
+    },
+    "cache": {
+        "Cache.__init__": "(self, capacity)",
+        "Cache.look": "(self, key)",
+        "Cache.fill": "(self, key, value)",
+        "Cache.drop": "(self, key)",
+        "Cache.clear_all": "(self)",
+        "Cache.entries": "(self)",
+        "Cache.__contains__": "(self, key)",
+    },
+    "droprules": {
+        "change_kind": "(old, new)",
+        "play_trace": "(trace, capacity, kinds)",
+        "is_safe": "(kinds, capacity)",
+        "unsafe_trace": "(kinds, capacity)",
     },
 }
 

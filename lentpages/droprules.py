@@ -23,7 +23,7 @@ def play_trace(trace, capacity, kinds):
         if event[0] == "set":
             _set_value(table, cache, event[1:], kinds)
         elif event[0] == "touch":
-            pairs.append(_touch(table, cache, event[1]))
+            pairs.append(touch(table, cache, event[1]))
         else:
             cache.clear_all()
     return pairs
@@ -42,6 +42,17 @@ def unsafe_trace(kinds, capacity):
     return [("set", 1, 1), ("touch", 1), ("set", 1, later), ("touch", 1)]
 
 
+def touch(table, cache, key):
+    """Does a touch event: what it sees, and the actual value. In the table None stands for absent, too."""
+    actual = table.get(key)
+    seen = cache.look(key)
+    if seen is None:
+        seen = actual
+        if actual is not None:
+            cache.fill(key, actual)
+    return (seen, actual)
+
+
 def _set_value(table, cache, entry, kinds):
     """Does a set event with the key and value of the entry."""
     key, value = entry
@@ -51,14 +62,3 @@ def _set_value(table, cache, entry, kinds):
         table.pop(key, None)
     else:
         table[key] = value
-
-
-def _touch(table, cache, key):
-    """Does a touch event: what it sees, and the actual value."""
-    actual = table.get(key)
-    seen = cache.look(key)
-    if seen is None:
-        seen = actual
-        if actual is not None:
-            cache.fill(key, actual)
-    return (seen, actual)

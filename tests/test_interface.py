@@ -52,6 +52,42 @@ INTERFACE = {
         "is_safe": "(kinds, capacity)",
         "unsafe_trace": "(kinds, capacity)",
     },
+    "flushplan": {
+        "flush_plan": "(trace, capacity)",
+    },
+    "library": {
+        "Library.__init__": "(self, shape)",
+        "Library.create": "(self)",
+        "Library.lend": "(self, book)",
+        "Library.delete": "(self, book)",
+        "Library.write": "(self, book, page, *, offset=0, length=1)",
+        "Library.drop_range": "(self, book, start, end)",
+        "Library.copy_page": "(self, book, page, target, target_page)",
+        "Library.stamp_of": "(self, book, page)",
+        "Library.changes": "(self)",
+        "Library.copies": "(self)",
+        "Library.table_count": "(self)",
+        "Library.leaves": "(self, book)",
+        "Library.holders": "(self, stamp)",
+        "Library.stamps": "(self)",
+        "Library.growth": "(self, slots)",
+        "Library.tables": "(self, book)",
+        "Library.lenders": "(self, book, level, page)",
+        "Library.tell_apart": "(self, book, page, other, other_page)",
+        "Library.restore": "(self, tables, leaves)",
+    },
+    "choosers": {
+        "Chooser.__init__": "(self, kind, frames)",
+        "Chooser.filled": "(self, frame)",
+        "Chooser.touched": "(self, frame)",
+        "Chooser.emptied": "(self, frame)",
+        "Chooser.choose": "(self, allowed)",
+    },
+    "traces": {
+        "page_ins": "(trace, frames, kind)",
+        "working_set": "(trace, window)",
+        "phases": "(trace, frames)",
+    },
 }
 
 

@@ -58,7 +58,6 @@ class Library:
     def copy_page(self, book, page, target, target_page):
         """Gives the target page the stamp of a page; returns the stamps that have lost their last holder."""
         stamp = self._find(book).stamp_of(page)
-        self._find(target)
         if (book, page) == (target, target_page):
             return []
         dropped = self._drop(target, target_page, target_page + 1)

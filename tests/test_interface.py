@@ -88,6 +88,35 @@ INTERFACE = {
         "working_set": "(trace, window)",
         "phases": "(trace, frames)",
     },
+    "fewest": {
+        "fewest_page_ins": "(trace, frames)",
+    },
+    "pager": {
+        "Pager.__init__": "(self, frames, places, page_size, *, chooser='lru')",
+        "Pager.room": "(self)",
+        "Pager.page_in_count": "(self)",
+        "Pager.page_out_count": "(self)",
+        "Pager.bring": "(self, stamp)",
+        "Pager.begin": "(self, stamp)",
+        "Pager.duplicate": "(self, old, new)",
+        "Pager.rename": "(self, old, new)",
+        "Pager.store": "(self, stamp, offset, data)",
+        "Pager.release": "(self, stamp)",
+        "Pager.pin": "(self, stamp)",
+        "Pager.unpin": "(self)",
+        "Pager.read": "(self, stamp, offset, length)",
+        "Pager.put_out": "(self, stamp)",
+        "Pager.live": "(self)",
+        "Pager.frame_list": "(self)",
+        "Pager.place_list": "(self)",
+        "Pager.left": "(self)",
+        "Pager.ledger": "(self)",
+        "Pager.sweep": "(self)",
+    },
+    "ledger": {
+        "bags_agree": "(places, rows, sweep)",
+        "first_lie": "(places, rows, sweep)",
+    },
 }
 
 

@@ -239,7 +239,7 @@ class CopyTest(unittest.TestCase):
         self.assertEqual(library.copy_page(1, 0, lent, 0), [])
         self.assertEqual((library.changes(), library.leaves(lent)), (5, [(0, 1), (1, 2)]))
         self.assertEqual(library.tables(lent), [(0, 0, 5), (1, 0, 5)])
-        self.assertEqual(library.tables(1), [(0, 0, 3 - 1), (1, 0, 3 - 1)])
+        self.assertEqual(library.tables(1), [(0, 0, 2), (1, 0, 2)])
         self.assertEqual([library.lenders(1, level, 0) for level in range(3)], [1, 1, 2])
 
     def test_the_number_of_a_copy_is_no_stamp(self):
@@ -305,7 +305,7 @@ class QuestionsTest(unittest.TestCase):
         library.write(1, 0)
         library.write(1, 3)
         for name, args in (("leaves", (1,)), ("tables", (1,)), ("holders", (1,)), ("stamps", ())):
-            wanted = getattr(library, name)(*args)
+            wanted = list(getattr(library, name)(*args))
             changed = getattr(library, name)(*args)
             changed.append(None)
             del changed[0]

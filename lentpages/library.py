@@ -42,14 +42,17 @@ class Library:
 
     def write(self, book, page, *, offset=0, length=1):
         """Writes to a page; returns the action, the earlier stamp and the new one."""
-        old = self._find(book).stamp_of(page)
-        action = _action_of(old, self._holders.holder_count(old))
+        action, old, new = self.next_write(book, page)
         if action == "copy":
             self._copy_count += 1
-        new = self._change_count + 1
         self._offsets[new] = offset
         self._change(book, page, new)
         return (action, old, new)
+
+    def next_write(self, book, page):
+        """What a write to the page would return now."""
+        old = self._find(book).stamp_of(page)
+        return (_action_of(old, self._holders.holder_count(old)), old, self._change_count + 1)
 
     def drop_range(self, book, start, end):
         """Sets the stamps of the range to 0 and returns those that have lost their last holder."""
@@ -76,6 +79,10 @@ class Library:
     def holders(self, stamp):
         """The pairs (book, page) of the pages that have the stamp."""
         return self._holders.holders_of(stamp)
+
+    def holder_count(self, stamp):
+        """The number of the holders of the stamp."""
+        return self._holders.holder_count(stamp)
 
     def stamps(self):
         """The stamps that have a holder."""

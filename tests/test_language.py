@@ -22,6 +22,12 @@ BUILTINS = set("""
     RuntimeError NotImplementedError AttributeError StopIteration NotImplemented
 """.split())
 
+# Names that stand nowhere, and words that stand in comments and docstrings only.
+BARRED = set("""
+    register mro elements open input law version_info with_traceback add_note attrgetter breakpoint compile delattr dir
+    eval exec exit gc globals help id importlib locals methodcaller os quit vars sys
+""".split())
+
 
 def sources():
     """The path, the text and the syntax tree of each file of the package."""
@@ -88,6 +94,30 @@ class LanguageTest(unittest.TestCase):
                     self.assertNotIn(node.name, BUILTINS, path.name)
                 if isinstance(node, ast.arg):
                     self.assertNotIn(node.arg, names, f"{path.name}, line {node.lineno}")
+
+    def test_barred_names(self):
+        for path, _, tree in sources():
+            for node in ast.walk(tree):
+                for field in ("id", "attr", "arg", "name"):
+                    name = getattr(node, field, None) or ""
+                    with self.subTest(file=path.name, name=name):
+                        self.assertNotIn(name, BARRED)
+                        self.assertNotRegex(name, r"^_(wall|pe_|dcw_|enum_|cm_|law_|lay_|stub_|sre|cold|outside)")
+
+    def test_no_name_is_a_method_and_an_attribute_of_one_class(self):
+        for path, _, tree in sources():
+            for node in [node for node in tree.body if isinstance(node, ast.ClassDef)]:
+                methods = {part.name for part in node.body if isinstance(part, ast.FunctionDef)}
+                stored = {
+                    part.attr for part in ast.walk(node)
+                    if isinstance(part, ast.Attribute) and isinstance(part.ctx, ast.Store)
+                }
+                self.assertFalse(methods & stored, (path.name, node.name))
+
+    def test_each_import_is_used(self):
+        for path, _, tree in sources():
+            used = {node.id for node in ast.walk(tree) if isinstance(node, ast.Name)}
+            self.assertLessEqual({name for _, name in imported(tree)}, used, path.name)
 
     def test_no_floats_and_no_decorated_classes(self):
         for path, _, tree in sources():

@@ -199,6 +199,26 @@ INTERFACE = {
         "play": "(crew, schedule)",
         "finish": "(crew)",
     },
+    "crewrules": {
+        "broken_run": "(rule)",
+    },
+    "replay": {
+        "replay": "(programs, order, house)",
+    },
+    "codes": {
+        "assemble": "(lines)",
+        "disassemble": "(data)",
+    },
+    "machine": {
+        "Machine.__init__": "(self, house, space, *, start=0, hand=0, mode='resume')",
+        "Machine.tick": "(self)",
+        "Machine.step": "(self)",
+        "Machine.run": "(self, limit)",
+        "Machine.outcome": "(self)",
+        "Machine.registers": "(self)",
+        "Machine.next_address": "(self)",
+        "Machine.executed": "(self)",
+    },
 }
 
 
